@@ -1,0 +1,1 @@
+"""Samerounds: webs found back from told rounds."""

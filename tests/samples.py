@@ -1,0 +1,83 @@
+"""Webs and values that several tests look at."""
+
+from itertools import combinations, combinations_with_replacement, product
+
+from samerounds.webs import web_of
+
+RING = web_of([(k, (k + 1) % 12) for k in range(12)])
+LIKE_TIES = web_of([(0, 1)] * 12)
+LOOPS = web_of([(0, 0)] * 12)
+LONE_LOOPS = web_of([(k, k) for k in range(12)])
+LONE_TIES = web_of([(2 * k, 2 * k + 1) for k in range(12)])
+WHEEL = web_of([(0, k) for k in range(1, 7)] + [(k, k % 6 + 1) for k in range(1, 7)])
+GRID = web_of([(near, 3 + far) for near in range(3) for far in range(4)])
+DOUBLED = web_of(list(combinations(range(4), 2)) * 2)
+MIXED = web_of(
+    [(0, 1), (1, 2), (2, 0), (2, 3), (3, 4), (3, 4), (4, 4), (5, 6), (6, 5), (6, 6), (7, 8), (9, 9)]
+)
+GREAT = [RING, LIKE_TIES, LOOPS, LONE_LOOPS, LONE_TIES, WHEEL, GRID, DOUBLED, MIXED]
+
+# Three ties, with a loop, like ties and unlike pieces; no set of these is one
+# of a web with three ties.
+NO_SETS = [
+    None, 0, True, "", "012", b"", [], [0], [0, 1], {0: True}, {0, 1}, object(), range(2), len,
+    (3,), (-1,), (0, 3), (1, 0), (0, 0), (0, 1, 1), (2, 1, 0), (True,), (False,), (False, 1),
+    (0, True), (0, None), ("0",), ((0,),), ((0, 1), 2), (0, [1]), (10 ** 999,), (-10 ** 999, 0),
+    tuple(range(1000)),
+]
+
+
+def all_sets(many):
+    """All sets of so many ties, as sets are listed."""
+    return [some for size in range(many + 1) for some in combinations(range(many), size)]
+
+
+def small_webs():
+    """Webs of up to three ties in each way to meet, and a choice of those with four and five."""
+    webs = []
+    for many, names in ((0, 1), (1, 2), (2, 4), (3, 4)):
+        pairs = list(combinations_with_replacement(range(names), 2))
+        webs += [web_of(ends) for ends in product(pairs, repeat=many)]
+    pairs = list(combinations_with_replacement(range(4), 2))
+    webs += [web_of(ends) for ends in list(product(pairs, repeat=4))[::37]]
+    webs += [web_of(ends) for ends in list(product(pairs, repeat=5))[::307]]
+    return webs
+
+
+def names_of_ends(web):
+    """For each tie the numbers of the stars that it is in, found from the stars alone."""
+    return [[at for at, star in enumerate(web.stars) if tie in star] for tie in range(len(web))]
+
+
+def plain_pieces(web, some):
+    """The pieces of a set of ties, as [12] tells them: walking from tie to tie."""
+    ends = names_of_ends(web)
+    found = []
+    for tie in some:
+        if any(tie in piece for piece in found):
+            continue
+        piece = {tie}
+        while True:
+            places = {place for one in piece for place in ends[one]}
+            more = {one for one in some if places & set(ends[one])}
+            if more == piece:
+                break
+            piece = more
+        found.append(tuple(sorted(piece)))
+    return tuple(sorted(found))
+
+
+def plain_is_round(web, some):
+    """Whether a set is a round, as [11] tells it."""
+    ends = names_of_ends(web)
+    if len(some) == 1:
+        return len(ends[some[0]]) == 1
+    if len(some) == 0 or any(len(ends[tie]) == 1 for tie in some):
+        return False
+    met = [place for tie in some for place in ends[tie]]
+    return all(met.count(place) == 2 for place in met) and len(plain_pieces(web, some)) == 1
+
+
+def plain_rounds(web):
+    """All rounds, by looking at each set."""
+    return tuple(some for some in all_sets(len(web)) if plain_is_round(web, some))
