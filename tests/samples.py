@@ -27,6 +27,22 @@ NO_SETS = [
 ]
 
 
+class Like:
+    """A value that says that it is equal to any other one."""
+
+    def __eq__(self, other):
+        return True
+
+    def __ne__(self, other):
+        return False
+
+    def __hash__(self):
+        return hash("part")
+
+
+LIKE = Like()
+
+
 def all_sets(many):
     """All sets of so many ties, as sets are listed."""
     return [some for size in range(many + 1) for some in combinations(range(many), size)]
@@ -42,6 +58,12 @@ def small_webs():
     webs += [web_of(ends) for ends in list(product(pairs, repeat=4))[::37]]
     webs += [web_of(ends) for ends in list(product(pairs, repeat=5))[::307]]
     return webs
+
+
+def distinct_webs(most=5):
+    """The small webs with up to so many ties, each once."""
+    found = {web.stars: web for web in small_webs() if len(web) <= most}
+    return [found[stars] for stars in sorted(found)]
 
 
 def names_of_ends(web):
@@ -81,3 +103,59 @@ def plain_is_round(web, some):
 def plain_rounds(web):
     """All rounds, by looking at each set."""
     return tuple(some for some in all_sets(len(web)) if plain_is_round(web, some))
+
+
+def plain_count(web, away=()):
+    """How many pieces there are without some ties, a place without ties being a piece, too."""
+    near = {place: {place} for place in range(len(web.stars))}
+    for tie, places in enumerate(names_of_ends(web)):
+        if tie not in away:
+            whole = near[places[0]] | near[places[-1]]
+            for place in whole:
+                near[place] = whole
+    return len({min(whole) for whole in near.values()})
+
+
+def plain_cuts(web):
+    """All cuts, as [40] tells them: sets without whose ties there are more pieces, and no lesser such set in them."""
+    many = plain_count(web)
+    found = []
+    for some in all_sets(len(web)):
+        if not any(set(one) <= set(some) for one in found) and plain_count(web, some) > many:
+            found.append(some)
+    return tuple(found)
+
+
+def plain_trees(web):
+    """All tree sets, as [41] tells them: without a round, and none can be added without a round."""
+    told = [set(some) for some in plain_rounds(web)]
+
+    def is_free(some):
+        return not any(one <= some for one in told)
+
+    found = []
+    for some in all_sets(len(web)):
+        others = set(range(len(web))) - set(some)
+        if is_free(set(some)) and not any(is_free({*some, tie}) for tie in others):
+            found.append(some)
+    return tuple(sorted(found))
+
+
+def plain_left(sets, out, shrunk):
+    """What is left of told sets, as [15] tells it."""
+    left = {frozenset(some) - set(shrunk) for some in sets if not set(some) & set(out)} - {frozenset()}
+    least = [tuple(sorted(some)) for some in left if not any(one < some for one in left)]
+    return tuple(sorted(least, key=lambda some: (len(some), some)))
+
+
+def arguments(function):
+    """The names of the arguments of a function, in their order."""
+    return function.__code__.co_varnames[:function.__code__.co_argcount]
+
+
+def by_names(function, *values):
+    """What a function returns, called by position, and by the names of its arguments in the other order."""
+    told = function(*values)
+    named = list(zip(arguments(function), values))
+    assert function(**dict(named)) == told and function(**dict(reversed(named))) == told
+    return told

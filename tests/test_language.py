@@ -141,6 +141,52 @@ class Language(unittest.TestCase):
                 if isinstance(node, ast.Call) and isinstance(node.func, ast.Attribute):
                     self.assertIn(node.func.attr, METHODS + own, name)
 
+    def test_iterated_at_once(self):
+        takers = ("list", "tuple", "dict", "sorted", "sum", "any", "all", "enumerate", "zip", "min", "max")
+        for name, text, tree in self.files:
+            allowed = []
+            for node in ast.walk(tree):
+                if isinstance(node, (ast.For, ast.comprehension)):
+                    allowed.append(node.iter)
+                if isinstance(node, ast.Call) and isinstance(node.func, ast.Name) and node.func.id in takers:
+                    allowed += node.args[:1]
+                if isinstance(node, ast.Compare) and isinstance(node.ops[0], (ast.In, ast.NotIn)):
+                    allowed += node.comparators
+            for node in ast.walk(tree):
+                if isinstance(node, ast.Call):
+                    called = node.func.id if isinstance(node.func, ast.Name) else node.func.attr
+                    if called in ("range", "zip", "enumerate", "reversed", "items", "keys", "values"):
+                        self.assertIn(node, allowed, (name, node.lineno))
+
+    def test_sets_stand_in_sorted(self):
+        for name, text, tree in self.files:
+            allowed = []
+            for node in ast.walk(tree):
+                if isinstance(node, ast.Call) and isinstance(node.func, ast.Name) and node.func.id in ("sorted", "len"):
+                    allowed += node.args
+            for node in ast.walk(tree):
+                is_call = isinstance(node, ast.Call) and isinstance(node.func, ast.Name) and node.func.id == "set"
+                if is_call or isinstance(node, (ast.Set, ast.SetComp)):
+                    self.assertIn(node, allowed, (name, node.lineno))
+
+    def test_one_file_defines_each_name(self):
+        # Also no two files import from each other: each file comes behind those that it imports from.
+        imports = {}
+        for name, text, tree in self.files:
+            found = [node for node in tree.body if isinstance(node, ast.ImportFrom)]
+            imports[name[:-3]] = {node.module.split(".")[1] for node in found}
+            for node in found:
+                home = [one for file, words, one in self.files if file == node.module.split(".")[1] + ".py"][0]
+                bound = [one.name for one in home.body if isinstance(one, (ast.FunctionDef, ast.ClassDef))]
+                bound += [one.targets[0].id for one in home.body if isinstance(one, ast.Assign)]
+                for alias in node.names:
+                    self.assertIn(alias.name, bound)
+        while imports:
+            first = [name for name in sorted(imports) if not imports[name] & set(imports)]
+            self.assertNotEqual(first, [])
+            for name in first:
+                del imports[name]
+
     def test_any_and_all_take_lists(self):
         # A package with an own __eq__ passes no generator expression to these.
         for name, text, tree in self.files:
