@@ -72,7 +72,7 @@ def left_masks(told, out, shrunk):
     return least_of([(mask | shrunk) ^ shrunk for mask in told if mask & out == 0])
 
 
-# The web that has told sets as its rounds.
+# The webs that have told sets as their rounds.
 
 
 def web_with(many, sets):
@@ -82,29 +82,33 @@ def web_with(many, sets):
 
 def web_of_masks(many, told):
     """A web of so many ties that has told sets as its rounds, or None if there is none."""
-    stars = stars_with(list(range(many)), told)
-    if stars is None:
-        return None
-    # Without any ties there is one place here, and no star.
-    return Web(sorted([set_of(star) for star in stars if star != 0]))
+    found = stars_with(list(range(many)), told, 1)
+    return Web(found[0]) if len(found) > 0 else None
 
 
-def stars_with(ties, told):
-    """The stars, as numbers, of a web of these ties that has told sets as its rounds, or None."""
+def stars_with(ties, told, most):
+    """A list of the stars of all webs in one piece of these ties that have told sets as their rounds.
+
+    If there are more than most of them, only so many are told.
+    """
     base = base_of(ties, told)
     closing = [tie for tie in ties if not is_in(tie, base)]
     closed = [first_within(told, base | (1 << tie)) for tie in closing]
     # The rounds of a web are the least sums of those that one tie more closes in a
     # tree set. So, where the told sets are such, only these rounds must come right.
     if least_of(sums_of(closed)) != told:
-        return None
+        return []
     paths = [mask & base for mask in closed]
-    stars = tree_with(by_paths(base, paths), paths)
-    if stars is None:
-        return None
+    trees = trees_with(by_paths(base, paths), paths, most)
+    return [stars_of_all(stars, closing, paths) for stars in trees]
+
+
+def stars_of_all(stars, closing, paths):
+    """The tuple of the stars that come of closing each of the paths in a tree by a tie."""
     for tie, path in zip(closing, paths):
         stars = closed_by(stars, tie, path)
-    return stars
+    # Without any ties there is one place here, and no star.
+    return tuple(sorted([set_of(star) for star in stars if star != 0]))
 
 
 def base_of(ties, told):
@@ -129,26 +133,35 @@ def by_paths(base, paths):
     return sorted(set_of(base), key=lambda tie: -len([path for path in paths if is_in(tie, path)]))
 
 
-def tree_with(ties, paths):
-    """The stars of a tree of these ties in which each of the paths is one, or None."""
+def trees_with(ties, paths, most):
+    """A list of the stars, as numbers, of the trees of these ties in which each of the paths is one.
+
+    If there are more than most of them, only so many are told.
+    """
     # If a tie of a tree is shrunk, its paths stay paths. So each tree is found by
     # putting in one tie after another, and what is no path once will never be one.
+    # Shrinking it leads to one tree alone, so none is found twice.
+    found = []
     trees = [(0,)]
-    while len(trees) > 0:
+    while len(trees) > 0 and len(found) < most:
         stars = trees.pop()
         many = len(stars)
         if many > len(ties):
-            return stars
+            found.append(stars)
+            continue
         now = mask_of(ties[:many])
         met = [path & now for path in paths]
         trees += [more for more in parted(stars, ties[many - 1]) if all([is_path(more, path) for path in met])]
-    return None
+    return found
 
 
 def parted(stars, tie):
-    """A list of the stars of all trees that come of parting one place into two with a tie between them."""
+    """A list of the stars of all trees that come of parting one place into two with a tie between them, each once."""
     found = []
     for at, star in enumerate(stars):
+        # Of a tree of one tie both places have the same star.
+        if star in stars[:at]:
+            continue
         # The first tie of the star stays, so no two of them are the same.
         for moved in sums_of([1 << one for one in set_of(star)[1:]]):
             ends = ((star ^ moved) | (1 << tie), moved | (1 << tie))
@@ -240,7 +253,7 @@ def others_of(many, mask):
 
 def is_barred(many, told, out, shrunk):
     """Whether no web has what is left of told sets."""
-    return stars_with(others_of(many, out | shrunk), left_masks(told, out, shrunk)) is None
+    return len(stars_with(others_of(many, out | shrunk), left_masks(told, out, shrunk), 1)) == 0
 
 
 def order_of(name, ties, left):

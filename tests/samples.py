@@ -2,7 +2,7 @@
 
 from itertools import combinations, combinations_with_replacement, product
 
-from samerounds.webs import web_of
+from samerounds.webs import Web, web_of
 
 RING = web_of([(k, (k + 1) % 12) for k in range(12)])
 LIKE_TIES = web_of([(0, 1)] * 12)
@@ -43,9 +43,23 @@ class Like:
 LIKE = Like()
 
 
+def of(*rows):
+    """A web by its stars, each told as a text of figures."""
+    return Web([tuple(int(sign) for sign in row) for row in rows])
+
+
 def all_sets(many):
     """All sets of so many ties, as sets are listed."""
     return [some for size in range(many + 1) for some in combinations(range(many), size)]
+
+
+def all_webs(many):
+    """All webs of so many ties: each end goes to a place that is met already or to the next one."""
+    rows = [()]
+    for end in range(2 * many):
+        rows = [(*row, place) for row in rows for place in range(max(row, default=-1) + 2)]
+    found = {web.stars: web for web in (web_of(list(zip(row[::2], row[1::2]))) for row in rows)}
+    return [found[stars] for stars in sorted(found)]
 
 
 def small_webs():

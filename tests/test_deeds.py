@@ -10,7 +10,7 @@ from samerounds.rounds import blocks, rank, rounds
 from samerounds.webs import Web, pieces, web_of
 from samples import (
     GREAT, GRID, LIKE, LIKE_TIES, LONE_LOOPS, LONE_TIES, LOOPS, MIXED, NO_SETS, RING, WHEEL, all_sets, arguments, by_names,
-    distinct_webs, plain_pieces, plain_rounds,
+    distinct_webs, of, plain_pieces, plain_rounds,
 )
 
 TRIANGLE = web_of([(0, 1), (1, 2), (2, 0)])
@@ -18,11 +18,6 @@ FOUR_TIED = web_of(list(combinations(range(4), 2)))
 RING_OF_FOUR = web_of([(0, 1), (1, 2), (2, 3), (3, 0)])
 AT_A_PLACE = web_of([(0, 1), (1, 2), (2, 0), (2, 3), (3, 4), (4, 2)])
 APART = web_of([(0, 1), (1, 2), (2, 0), (5, 3), (3, 4), (4, 5)])
-
-
-def of(*rows):
-    """A web by its stars, each told as a text of figures."""
-    return Web([tuple(int(sign) for sign in row) for row in rows])
 
 
 def shares(star, some):

@@ -187,6 +187,34 @@ class Language(unittest.TestCase):
             for name in first:
                 del imports[name]
 
+    def test_classes(self):
+        # No name is a method in one class and an attribute in another; no decorator but that of properties.
+        methods, attributes = set(), set()
+        for name, text, tree in self.files:
+            for node in ast.walk(tree):
+                if isinstance(node, ast.FunctionDef):
+                    self.assertIn([one.id for one in node.decorator_list], ([], ["property"]), node.name)
+                if isinstance(node, ast.ClassDef):
+                    self.assertEqual(node.decorator_list, [])
+                    methods |= {one.name for one in node.body if isinstance(one, ast.FunctionDef)}
+                if isinstance(node, ast.Attribute) and isinstance(node.ctx, ast.Store):
+                    attributes.add(node.attr)
+        self.assertEqual(methods & attributes, set())
+        self.assertEqual(attributes & set(METHODS), set())
+        self.assertEqual(methods & set(METHODS), set())
+        double = {name for name in methods if name.startswith("_")}
+        self.assertLessEqual(double, {"__init__", "__eq__", "__len__", "__enter__", "__exit__"})
+
+    def test_what_leaves_a_with_block(self):
+        # Only attributes are assigned there, and only what attributes hold.
+        for name, text, tree in self.files:
+            for node in ast.walk(tree):
+                if isinstance(node, ast.FunctionDef) and node.name == "__exit__":
+                    for row in node.body:
+                        self.assertIsInstance(row, ast.Assign)
+                        self.assertIsInstance(row.targets[0], ast.Attribute)
+                        self.assertIsInstance(row.value, ast.Attribute)
+
     def test_any_and_all_take_lists(self):
         # A package with an own __eq__ passes no generator expression to these.
         for name, text, tree in self.files:

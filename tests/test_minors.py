@@ -11,15 +11,10 @@ from samerounds.rounds import is_loop, rounds, same_rounds
 from samerounds.webs import Web, pieces, web_of
 from samples import (
     GREAT, LIKE, LIKE_TIES, LONE_LOOPS, LONE_TIES, LOOPS, MIXED, RING, all_sets, arguments, by_names, distinct_webs,
-    names_of_ends, plain_cuts, plain_left, plain_rounds,
+    names_of_ends, of, plain_cuts, plain_left, plain_rounds,
 )
 
 SMALL = distinct_webs()
-
-
-def of(*rows):
-    """A web by its stars, each told as a text of figures."""
-    return Web([tuple(int(sign) for sign in row) for row in rows])
 
 
 def plain_without(web, tie, is_one_place):
